@@ -1,0 +1,112 @@
+"""The form of the package's files: those rules of the language that can be seen file by file."""
+
+import ast
+import pathlib
+import re
+import unittest
+
+PACKAGE = pathlib.Path(__file__).resolve().parent.parent / "worktwin"
+FILES = sorted(PACKAGE.glob("*.py"))
+
+BUILTINS = set(
+    "len range enumerate zip min max sum abs sorted reversed int str bool bytes list tuple dict set isinstance ord repr"
+    " any all divmod iter next Exception ValueError TypeError KeyError IndexError LookupError ZeroDivisionError"
+    " ArithmeticError OverflowError RuntimeError NotImplementedError".split()
+)
+BARRED_WORDS = re.compile(
+    r"\b(type|typing|typing_extensions|enum|Enum|IntEnum|StrEnum|Flag|IntFlag|Generic|Protocol|ABC|ABCMeta|namedtuple"
+    r"|NamedTuple|TypedDict|TYPE_CHECKING|abstractmethod)\b|dataclass|overload|contextmanager"
+)
+BARRED_NODES = (
+    ast.Global, ast.AsyncFunctionDef, ast.AsyncFor, ast.AsyncWith, ast.Await, ast.Div, ast.MatMult, ast.Import,
+)
+
+
+def trees():
+    for file in FILES:
+        yield file.name, ast.parse(file.read_text(encoding="utf-8"))
+
+
+def bound_names(tree):
+    for node in ast.walk(tree):
+        if isinstance(node, (ast.FunctionDef, ast.ClassDef)):
+            yield node.name
+        elif isinstance(node, ast.Name) and isinstance(node.ctx, ast.Store):
+            yield node.id
+        elif isinstance(node, ast.arg):
+            yield node.arg
+        elif isinstance(node, ast.alias):
+            yield node.asname or node.name
+
+
+class FormTest(unittest.TestCase):
+    def test_the_folder_has_python_files_alone(self):
+        found = [one.name for one in PACKAGE.iterdir() if one.name != "__pycache__"]
+        self.assertEqual(sorted(found), [file.name for file in FILES])
+        self.assertIn("__init__.py", found)
+        for name in found:
+            self.assertRegex(name, r"\A[a-z0-9_]+\.py\Z")
+
+    def test_size_and_characters(self):
+        for file in FILES:
+            text = file.read_text(encoding="utf-8")
+            self.assertRegex(text, r"\A[ -~\n]*\Z", file.name)
+            rows = text.split("\n")
+            self.assertLessEqual(len(rows), 399, file.name)
+            self.assertLessEqual(max(len(row) for row in rows), 120, file.name)
+
+    def test_functions_are_short(self):
+        for name, tree in trees():
+            for node in ast.walk(tree):
+                if isinstance(node, ast.FunctionDef):
+                    self.assertLessEqual(node.end_lineno - node.lineno + 1, 40, (name, node.name))
+                    self.assertEqual(node.decorator_list, [], (name, node.name))
+
+    def test_barred_words(self):
+        for file in FILES:
+            self.assertIsNone(BARRED_WORDS.search(file.read_text(encoding="utf-8")), file.name)
+
+    def test_statements(self):
+        for name, tree in trees():
+            for node in ast.walk(tree):
+                self.assertNotIsInstance(node, BARRED_NODES, name)
+                if isinstance(node, ast.Constant):
+                    self.assertNotIsInstance(node.value, (float, complex), name)
+                    if isinstance(node.value, str):
+                        self.assertNotIn("%", node.value, name)
+
+    def test_module_level(self):
+        kinds = (ast.FunctionDef, ast.ClassDef, ast.ImportFrom, ast.Assign)
+        for name, tree in trees():
+            self.assertIsNotNone(ast.get_docstring(tree), name)
+            for node in tree.body[1:]:
+                self.assertIsInstance(node, kinds, name)
+
+    def test_imports(self):
+        for name, tree in trees():
+            for node in ast.walk(tree):
+                if isinstance(node, ast.ImportFrom):
+                    self.assertEqual(node.level, 0, name)
+                    self.assertRegex(node.module, r"\Aworktwin\.\w+\Z", name)
+                    defined = (PACKAGE / f"{node.module.split('.')[1]}.py").read_text(encoding="utf-8")
+                    for one in node.names:
+                        self.assertIsNone(one.asname, name)
+                        self.assertRegex(defined, rf"(?m)^(def|class) {one.name}\(|^{one.name} = ", name)
+
+    def test_names(self):
+        known = set(dir(__builtins__)) if not isinstance(__builtins__, dict) else set(__builtins__)
+        for name, tree in trees():
+            for bound in bound_names(tree):
+                self.assertRegex(bound, r"\A[A-Za-z][A-Za-z0-9_]*\Z|\A__init__\Z", name)
+                self.assertNotIn(bound, known, name)
+
+    def test_builtins(self):
+        known = set(dir(__builtins__)) if not isinstance(__builtins__, dict) else set(__builtins__)
+        for name, tree in trees():
+            for node in ast.walk(tree):
+                if isinstance(node, ast.Name) and node.id in known:
+                    self.assertIn(node.id, BUILTINS, name)
+
+
+if __name__ == "__main__":
+    unittest.main()

@@ -1,0 +1,26 @@
+import importlib
+import inspect
+import unittest
+
+# By file: each function with its arguments, as the interface writes them.
+FUNCTIONS = {
+    "works": {"is_works": "(thing)"},
+    "worktext": {"works_text": "(works)", "works_in": "(text)"},
+    "stands": {"is_stand": "(works, thing)", "begin_stands": "(works)"},
+}
+
+
+class InterfaceTest(unittest.TestCase):
+    def test_functions(self):
+        for file, functions in FUNCTIONS.items():
+            module = importlib.import_module(f"worktwin.{file}")
+            for name, arguments in functions.items():
+                with self.subTest(f"{file}.{name}"):
+                    found = getattr(module, name)
+                    self.assertTrue(inspect.isfunction(found))
+                    self.assertEqual(found.__module__, f"worktwin.{file}")
+                    self.assertEqual(str(inspect.signature(found)), arguments)
+
+
+if __name__ == "__main__":
+    unittest.main()

@@ -1,0 +1,1 @@
+"""Worktwin: a works followed by its signs alone."""

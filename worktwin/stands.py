@@ -1,0 +1,38 @@
+"""The stands of a works: the mode of each part and the level of each box."""
+
+from worktwin.words import is_tuple_of, is_within
+
+
+def is_stand(works, thing):
+    """Whether this is a stand of that works."""
+    boxes, parts = works[1], works[2]
+    if not is_tuple_of(thing, 2):
+        return False
+    modes, levels = thing
+    if not is_tuple_of(modes, len(parts)) or not is_tuple_of(levels, len(boxes)):
+        return False
+    if not all([mode in part[1] for part, mode in zip(parts, modes)]):
+        return False
+    return all([is_within(level, 0, box[1]) for box, level in zip(boxes, levels)])
+
+
+def begin_stands(works):
+    """The rising list of the stands in which a run may begin."""
+    modes = tuple([part[1][0] for part in works[2]])
+    found = [()]
+    for name, cap, low, high in works[1]:
+        found = [(*ahead, level) for ahead in found for level in range(low, high + 1)]
+    return [(modes, levels) for levels in found]
+
+
+def level_sum(works, stand, some):
+    """The sum of the levels of the boxes that have these NAMEs."""
+    return sum([level for box, level in zip(works[1], stand[1]) if box[0] in some])
+
+
+def mode_in(works, stand, name):
+    """The mode in which the part of that NAME stands."""
+    for part, mode in zip(works[2], stand[0]):
+        if part[0] == name:
+            return mode
+    return None

@@ -1,0 +1,46 @@
+"""NAMEs, numbers, tuples and what rises: the plain questions that the other files share."""
+
+LETTERS = "abcdefghijklmnopqrstuvwxyz"
+FIGURES = "0123456789"
+LONGEST_NAME = 8
+
+
+def is_number(thing):
+    """Whether this is a number."""
+    # Python counts True and False among its whole numbers.
+    return isinstance(thing, int) and not isinstance(thing, bool)
+
+
+def is_within(thing, low, high):
+    """Whether this is a number from low to high."""
+    return is_number(thing) and low <= thing <= high
+
+
+def is_name(thing):
+    """Whether this is a NAME."""
+    if not isinstance(thing, str) or not 1 <= len(thing) <= LONGEST_NAME:
+        return False
+    return all([letter in LETTERS for letter in thing])
+
+
+def is_tuple_of(thing, many):
+    """Whether this is a tuple of so many things."""
+    return isinstance(thing, tuple) and len(thing) == many
+
+
+def rises(things):
+    """Whether each of these, all of one kind, is greater than the one ahead."""
+    return all([ahead < one for ahead, one in zip(things, things[1:])])
+
+
+def number_in(word, high):
+    """The number, from 0 to high, that this word writes in plain figures; None where it writes none."""
+    # Asked first, since Python reads no word of thousands of figures.
+    if not 1 <= len(word) <= len(str(high)):
+        return None
+    if not all([figure in FIGURES for figure in word]):
+        return None
+    if word[0] == "0" and len(word) > 1:
+        return None
+    number = int(word)
+    return number if number <= high else None
