@@ -186,8 +186,8 @@ def any_works(rng, boxes=3, parts=3, cap=4):
     found_boxes = []
     for name in names(rng, rng.randint(1, boxes)):
         top = rng.randint(1, cap)
-        low = rng.randint(0, top)
-        found_boxes.append((name, top, low, rng.randint(low, min(top, low + 1))))
+        low = rng.randint(0, max(0, top - 1))
+        found_boxes.append((name, top, low, rng.randint(low, min(top, low + 2))))
     found_parts = []
     for name in names(rng, rng.randint(1, parts)):
         modes = names(rng, rng.randint(2, 3))
@@ -196,17 +196,17 @@ def any_works(rng, boxes=3, parts=3, cap=4):
         found_parts.append((name, tuple(modes), odd))
     ends = ["", *[box[0] for box in found_boxes]]
     pipes = []
-    for _ in range(rng.randint(0, 5)):
+    for _ in range(rng.choice((0, 2, 3, 4, 5))):
         source, goal = rng.sample(ends, 2)
         part = rng.choice(found_parts)
-        least = rng.randint(0, 3)
-        pipes.append((source, goal, part[0], rng.choice(part[1]), least, least + rng.randint(0, 2)))
+        least = rng.choice((0, 0, 1, 2, 3))
+        pipes.append((source, goal, part[0], rng.choice(part[1][:2]), least, least + rng.choice((0, 1, 2, 2))))
     deeds = []
-    for name in names(rng, rng.randint(0, 4)):
+    for name in names(rng, rng.choice((0, 2, 3, 4))):
         sets = [(part[0], rng.choice(part[1])) for part in some_of(rng, found_parts, 1)]
         deeds.append((name, tuple(sets)))
     sensors = []
-    for name in names(rng, rng.randint(0, 5)):
+    for name in names(rng, rng.choice((0, 3, 4, 5))):
         if rng.random() < 0.5:
             sensors.append((name, "sum", some_of(rng, ends[1:], 1), rng.randint(0, 3)))
         else:

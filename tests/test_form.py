@@ -100,6 +100,13 @@ class FormTest(unittest.TestCase):
                 self.assertRegex(bound, r"\A[A-Za-z][A-Za-z0-9_]*\Z|\A__init__\Z", name)
                 self.assertNotIn(bound, known, name)
 
+    def test_imports_are_not_bound_again(self):
+        for name, tree in trees():
+            taken = [one.name for node in tree.body if isinstance(node, ast.ImportFrom) for one in node.names]
+            bound = list(bound_names(tree))
+            for one in taken:
+                self.assertEqual(bound.count(one), 1, (name, one))
+
     def test_builtins(self):
         known = set(dir(__builtins__)) if not isinstance(__builtins__, dict) else set(__builtins__)
         for name, tree in trees():

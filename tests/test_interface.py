@@ -7,6 +7,22 @@ FUNCTIONS = {
     "works": {"is_works": "(thing)"},
     "worktext": {"works_text": "(works)", "works_in": "(text)"},
     "stands": {"is_stand": "(works, thing)", "begin_stands": "(works)"},
+    "beats": {"behind": "(works, stand, deed, *, lot=())", "expected": "(works, stand, deed)"},
+    "signs": {
+        "is_sign": "(works, thing)",
+        "fits": "(works, stand, sign)",
+        "readings": "(works, stand, sensor)",
+    },
+    "stories": {
+        "is_story": "(works, thing)",
+        "told_story": "(works, story)",
+        "until": "(works, story, beat)",
+    },
+    "storytext": {"story_text": "(story)", "story_in": "(works, text)"},
+    "allowed": {
+        "opened": "(works, story, *, lot=(), most=200)",
+        "allowed": "(works, story, *, lot=(), most=200)",
+    },
 }
 
 

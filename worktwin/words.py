@@ -28,6 +28,11 @@ def is_tuple_of(thing, many):
     return isinstance(thing, tuple) and len(thing) == many
 
 
+def is_tuple_within(thing, least, most):
+    """Whether this is a tuple of least to most things."""
+    return isinstance(thing, tuple) and least <= len(thing) <= most
+
+
 def rises(things):
     """Whether each of these, all of one kind, is greater than the one ahead."""
     return all([ahead < one for ahead, one in zip(things, things[1:])])

@@ -1,6 +1,6 @@
 """What a works is: boxes, parts, pipes, deeds and sensors."""
 
-from worktwin.words import is_name, is_tuple_of, is_within, rises
+from worktwin.words import is_name, is_tuple_of, is_tuple_within, is_within, rises
 
 MOST_OF = {"works": 1, "box": 3, "part": 4, "pipe": 5, "deed": 4, "sensor": 5}
 MOST_CAP = 9
@@ -38,7 +38,7 @@ def is_part(thing):
     if not is_tuple_of(thing, 3):
         return False
     name, modes, odd = thing
-    if not is_name(name) or not (is_tuple_of(modes, 2) or is_tuple_of(modes, 3)):
+    if not is_name(name) or not is_tuple_within(modes, 2, 3):
         return False
     if not all([is_name(mode) for mode in modes]) or len(set(modes)) < len(modes):
         return False
@@ -50,7 +50,7 @@ def is_pipe(thing, boxes, parts):
     if not is_tuple_of(thing, 6):
         return False
     source, goal, part, mode, least, most = thing
-    ends = ["", *names_of(boxes)]
+    ends = names_of(boxes) + [""]
     if source not in ends or goal not in ends or source == goal:
         return False
     if mode not in modes_of(parts, part) or not is_within(least, 0, MOST_FLOW):
@@ -93,35 +93,35 @@ def is_sensor(thing, boxes, parts):
 
 def are_boxes(thing):
     """Whether this is the tuple of a works' boxes."""
-    if not isinstance(thing, tuple) or not 1 <= len(thing) <= MOST_OF["box"]:
+    if not is_tuple_within(thing, 1, MOST_OF["box"]):
         return False
     return all([is_box(box) for box in thing]) and rises(names_of(thing))
 
 
 def are_parts(thing):
     """Whether this is the tuple of a works' parts."""
-    if not isinstance(thing, tuple) or not 1 <= len(thing) <= MOST_OF["part"]:
+    if not is_tuple_within(thing, 1, MOST_OF["part"]):
         return False
     return all([is_part(part) for part in thing]) and rises(names_of(thing))
 
 
 def are_pipes(thing, boxes, parts):
     """Whether this is the tuple of the pipes of a works with these boxes and parts."""
-    if not isinstance(thing, tuple) or len(thing) > MOST_OF["pipe"]:
+    if not is_tuple_within(thing, 0, MOST_OF["pipe"]):
         return False
     return all([is_pipe(pipe, boxes, parts) for pipe in thing])
 
 
 def are_deeds(thing, parts):
     """Whether this is the tuple of the deeds of a works with these parts."""
-    if not isinstance(thing, tuple) or len(thing) > MOST_OF["deed"]:
+    if not is_tuple_within(thing, 0, MOST_OF["deed"]):
         return False
     return all([is_deed(deed, parts) for deed in thing]) and rises(names_of(thing))
 
 
 def are_sensors(thing, boxes, parts):
     """Whether this is the tuple of the sensors of a works with these boxes and parts."""
-    if not isinstance(thing, tuple) or len(thing) > MOST_OF["sensor"]:
+    if not is_tuple_within(thing, 0, MOST_OF["sensor"]):
         return False
     return all([is_sensor(sensor, boxes, parts) for sensor in thing]) and rises(names_of(thing))
 

@@ -1,0 +1,97 @@
+"""Beats and runs as the document words them, tried one by one: slow, and apart from the package's own ways."""
+
+import itertools
+
+
+def may_stand(works, at, stood, mode, deed, lot):
+    """Whether the part at that place may stand in a mode behind the beat."""
+    name, _, odd = works[2][at]
+    sets = dict(pair for known, pairs in works[4] if known == deed for pair in pairs)
+    due = sets.get(name, stood)
+    return mode == due or (name in lot and (mode == stood or mode in odd))
+
+
+def flow(works, modes, levels, amounts):
+    """The levels behind all pipes, each of which takes its own of these amounts."""
+    held = {box[0]: level for box, level in zip(works[1], levels)}
+    caps = {box[0]: box[1] for box in works[1]}
+    standing = {part[0]: mode for part, mode in zip(works[2], modes)}
+    for (source, goal, part, mode, _, _), amount in zip(works[3], amounts):
+        if standing[part] != mode:
+            continue
+        cut = [amount]
+        if source:
+            cut.append(held[source])
+        if goal:
+            cut.append(caps[goal] - held[goal])
+        if source:
+            held[source] -= min(cut)
+        if goal:
+            held[goal] += min(cut)
+    return tuple(held[box[0]] for box in works[1])
+
+
+def behind(works, stand, deed, lot=()):
+    """All stands that may be behind the beat."""
+    found = set()
+    for modes in itertools.product(*[part[1] for part in works[2]]):
+        if all(may_stand(works, at, stand[0][at], mode, deed, lot) for at, mode in enumerate(modes)):
+            for amounts in itertools.product(*[range(pipe[4], pipe[5] + 1) for pipe in works[3]]):
+                found.add((modes, flow(works, modes, stand[1], amounts)))
+    return sorted(found)
+
+
+def fits(works, stand, sign):
+    """Whether a sign fits a stand."""
+    _, name, reading = sign
+    sensor = [one for one in works[5] if one[0] == name][0]
+    if sensor[1] == "part":
+        return dict(zip([part[0] for part in works[2]], stand[0]))[sensor[2]] == reading
+    levels = dict(zip([box[0] for box in works[1]], stand[1]))
+    return sum(levels[box] for box in sensor[2]) - reading in range(-sensor[3], sensor[3] + 1)
+
+
+def all_stands(works):
+    """All stands of a works."""
+    modes = itertools.product(*[part[1] for part in works[2]])
+    return list(itertools.product(modes, itertools.product(*[range(box[1] + 1) for box in works[1]])))
+
+
+def begins(works):
+    """All stands in which a run may begin."""
+    modes = tuple(part[1][0] for part in works[2])
+    return [
+        stand for stand in all_stands(works)
+        if stand[0] == modes and all(box[2] <= level <= box[3] for box, level in zip(works[1], stand[1]))
+    ]
+
+
+def runs(works, story, lot=()):
+    """All runs of a story, the signs asked of whole runs alone; None where they are too many to try."""
+    deeds, signs = story
+    found = [[stand] for stand in begins(works)]
+    for deed in deeds:
+        found = [[*run, stand] for run in found for stand in behind(works, run[-1], deed, lot)]
+        if len(found) > 3000:
+            return None
+    return [run for run in found if all(fits(works, run[sign[0]], sign) for sign in signs)]
+
+
+def allowed(works, story, lot=()):
+    """The stands that runs have, beat by beat."""
+    found = runs(works, story, lot)
+    if found is None:
+        return None
+    return [sorted({run[beat] for run in found}) for beat in range(len(story[0]) + 1)]
+
+
+def opened(works, story, lot=()):
+    """The last stands of the runs of the story until each beat."""
+    found = []
+    for beat in range(len(story[0]) + 1):
+        cut = (story[0][:beat], [sign for sign in story[1] if sign[0] <= beat])
+        stands = allowed(works, cut, lot)
+        if stands is None:
+            return None
+        found.append(stands[-1])
+    return found
