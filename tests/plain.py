@@ -2,6 +2,8 @@
 
 import itertools
 
+from tests.samples import any_deed
+
 
 def may_stand(works, at, stood, mode, deed, lot):
     """Whether the part at that place may stand in a mode behind the beat."""
@@ -95,3 +97,48 @@ def opened(works, story, lot=()):
             return None
         found.append(stands[-1])
     return found
+
+
+def lived_run(rng, works, deeds, lot):
+    """A list of stands, one for each beat, as the works may go through them by these deeds."""
+    run = [rng.choice(begins(works))]
+    for deed in deeds:
+        run.append(rng.choice(behind(works, run[-1], deed, lot)))
+    return run
+
+
+def lived_story(rng, works, lot, most=4):
+    """A story of at most three deeds, with at most so many signs that one of its runs gives."""
+    deeds = [any_deed(rng, works) for _ in range(rng.choice((0, 2, 3, 3)))]
+    run = lived_run(rng, works, deeds, lot)
+    signs = []
+    for _ in range(rng.randint(1, most) if works[5] else 0):
+        beat, sensor = rng.randrange(len(run)), rng.choice(works[5])
+        told = range(41) if sensor[1] == "sum" else [mode for part in works[2] for mode in part[1]]
+        fitting = [reading for reading in told if fits(works, run[beat], (beat, sensor[0], reading))]
+        signs.append((beat, sensor[0], rng.choice(fitting)))
+    return (deeds, signs)
+
+
+def holds(works, claim, stand):
+    """Whether a claim holds in a stand."""
+    word = claim[0]
+    if word == "sum":
+        return sum(level for box, level in zip(works[1], stand[1]) if box[0] in claim[1]) in range(claim[2], claim[3] + 1)
+    if word == "mode":
+        return dict(zip([part[0] for part in works[2]], stand[0]))[claim[1]] in claim[2]
+    if word == "not":
+        return not holds(works, claim[1], stand)
+    found = [holds(works, one, stand) for one in claim[1]]
+    return False not in found if word == "all" else True in found
+
+
+def claim_text(claim):
+    """The text of a claim."""
+    word = claim[0]
+    if word == "sum":
+        return "sum " + ",".join(claim[1]) + " " + str(claim[2]) + " " + str(claim[3])
+    if word == "mode":
+        return "mode " + claim[1] + " " + ",".join(claim[2])
+    within = [claim[1]] if word == "not" else claim[1]
+    return "(" + word + "".join(" " + claim_text(one) for one in within) + ")"

@@ -89,6 +89,27 @@ SHARED = (
     (("box", "part", "box"), ("part", "sum", ("box", "sum"), 2), ("sum", "sum", ("part",), 3)),
 )
 
+# One box, whose level is told closely, and a part that may come to stand in an odd mode.
+TUB = (
+    "tub",
+    (("tub", 6, 1, 3),),
+    (("plug", ("in", "out"), ("out",)), ("tap", ("shut", "run"), ())),
+    (("", "tub", "tap", "run", 1, 2), ("tub", "", "plug", "out", 0, 1)),
+    (("fill", (("tap", "run"),)), ("stop", (("tap", "shut"),))),
+    (("knob", "part", "tap"), ("rod", "sum", ("tub",), 0), ("view", "sum", ("tub",), 1)),
+)
+FILL = ["fill", "stop"]
+
+# NAMEs that are words of claims.
+WORDY = (
+    "all",
+    (("all", 9, 0, 9), ("not", 9, 0, 9), ("sum", 9, 0, 9)),
+    (("any", ("sum", "mode", "not"), ()), ("mode", ("all", "any", "mode"), ())),
+    (),
+    (),
+    (),
+)
+
 ALL_WORKS = (MILL, LEAST, GREAT, SHARED)
 
 # What can't be a thing of any works, or hardly.
@@ -140,6 +161,25 @@ def swapped(thing):
     if isinstance(thing, list):
         return tuple([swapped(one) for one in thing])
     return thing
+
+
+def retold(thing):
+    """The same thing, with one list for a tuple or a tuple for a list, or a truth for a number, each in its turn."""
+    for path in paths(thing):
+        found = at_path(thing, path)
+        if isinstance(found, (tuple, list)):
+            yield replaced(thing, path, list(found) if isinstance(found, tuple) else tuple(found))
+        elif found in (0, 1):
+            yield replaced(thing, path, bool(found))
+
+
+def altered(thing, seed, many=5):
+    """The same thing with anything else at one place, or without what stands there."""
+    for path in paths(thing):
+        if path:
+            yield dropped(thing, path)
+        for other in any_things(seed, many):
+            yield replaced(thing, path, other)
 
 
 def nested(deep, within=None):
@@ -218,6 +258,24 @@ def any_stand(rng, works):
     """A stand of that works."""
     modes = tuple([rng.choice(part[1]) for part in works[2]])
     return (modes, tuple([rng.randint(0, box[1]) for box in works[1]]))
+
+
+def boxes_of(*highs):
+    """The least works, with so many boxes, that begin from 0 to these."""
+    return replaced(LEAST, (1,), tuple([(name, 9, 0, high) for name, high in zip("abc", highs)]))
+
+
+def any_claim(rng, works, deep=3):
+    """A claim of that works, at most so deep."""
+    sort = rng.choice(("sum", "sum", "mode", "not", "all", "any") if deep > 1 else ("sum", "mode"))
+    if sort == "sum":
+        return ("sum", some_of(rng, [box[0] for box in works[1]], 1), rng.randint(0, 6), rng.randint(0, 12))
+    if sort == "mode":
+        part = rng.choice(works[2])
+        return ("mode", part[0], some_of(rng, sorted(part[1]), 1))
+    if sort == "not":
+        return ("not", any_claim(rng, works, deep - 1))
+    return (sort, tuple([any_claim(rng, works, deep - 1) for _ in range(rng.randint(0, 3))]))
 
 
 def any_lot(rng, works):

@@ -3,24 +3,12 @@ import random
 import unittest
 
 from tests import plain
-from tests.samples import GREAT, LEAST, MILL, any_deed, any_lot, any_story, any_works, replaced, swapped
+from tests.samples import FILL, GREAT, MILL, TUB, any_lot, any_story, any_works, boxes_of, replaced, swapped
 from worktwin import allowed as file
 from worktwin.allowed import MOST, allowed, opened
 from worktwin.errors import TooMany
-from worktwin.signs import readings
 from worktwin.stands import is_stand
 from worktwin.stories import until
-
-TUB = (
-    "tub",
-    (("tub", 6, 1, 3),),
-    (("plug", ("in", "out"), ("out",)), ("tap", ("shut", "run"), ())),
-    (("", "tub", "tap", "run", 1, 2), ("tub", "", "plug", "out", 0, 1)),
-    (("fill", (("tap", "run"),)), ("stop", (("tap", "shut"),))),
-    (("knob", "part", "tap"), ("rod", "sum", ("tub",), 0), ("view", "sum", ("tub",), 1)),
-)
-FILL = ["fill", "stop"]
-
 
 def stands(plug, tap, *levels):
     return [((plug, tap), (level,)) for level in levels]
@@ -29,24 +17,6 @@ def stands(plug, tap, *levels):
 def levels(found):
     """The levels of the tub at each beat."""
     return [[stand[1][0] for stand in row] for row in found]
-
-
-def boxes_of(*highs):
-    """The least works, with so many boxes, that begin from 0 to these."""
-    return replaced(LEAST, (1,), tuple([(name, 9, 0, high) for name, high in zip("abc", highs)]))
-
-
-def lived_story(rng, works, lot):
-    """A story of at most three deeds, with signs that one of its runs gives."""
-    run = [rng.choice(plain.begins(works))]
-    deeds = [any_deed(rng, works) for _ in range(rng.choice((0, 2, 3, 3)))]
-    for deed in deeds:
-        run.append(rng.choice(plain.behind(works, run[-1], deed, lot)))
-    signs = []
-    for _ in range(rng.randint(1, 4) if works[5] else 0):
-        beat, sensor = rng.randrange(len(run)), rng.choice(works[5])[0]
-        signs.append((beat, sensor, rng.choice(readings(works, run[beat], sensor))))
-    return (deeds, signs)
 
 
 class OpenedTest(unittest.TestCase):
@@ -191,6 +161,20 @@ class BothTest(unittest.TestCase):
         for ask in (opened, allowed):
             self.assertEqual(ask(TUB, (FILL, [(0, "rod", 9)]), most=1), [[], [], []])
 
+    def test_too_many_of_any_works(self):
+        rng = random.Random(104)
+        for at in range(60):
+            works = any_works(rng, 2, 2, 4)
+            lot = any_lot(rng, works)
+            story = plain.lived_story(rng, works, lot) if at % 2 else any_story(rng, works)
+            rows = plain.opened(works, story, lot)
+            many = max([len(row) for row in rows]) if rows else 0
+            if many > 1:
+                self.refused(many - 1, works, story, lot=lot, most=many - 1)
+                self.refused(1, works, story, lot=lot, most=1)
+                self.assertEqual(opened(works, story, lot=lot, most=many), rows)
+                self.assertEqual(allowed(works, story, lot=lot, most=many), plain.allowed(works, story, lot))
+
     def test_most_left_out_is_200(self):
         works = boxes_of(9, 9, 1)
         for ask in (opened, allowed):
@@ -251,7 +235,7 @@ class BothTest(unittest.TestCase):
                 box, part = works[1][-1][0], works[2][0][0]
                 works = replaced(works, (5,), (("s", "sum", (box,), 0), ("t", "part", part), ("u", "sum", (box,), 1)))
             lot = any_lot(rng, works)
-            story = lived_story(rng, works, lot) if tried % 3 else any_story(rng, works, 3, 3)
+            story = plain.lived_story(rng, works, lot) if tried % 3 else any_story(rng, works, 3, 3)
             wanted = plain.allowed(works, story, lot)
             wanted_open = plain.opened(works, story, lot)
             if wanted is None or wanted_open is None:

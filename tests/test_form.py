@@ -17,6 +17,11 @@ BARRED_WORDS = re.compile(
     r"\b(type|typing|typing_extensions|enum|Enum|IntEnum|StrEnum|Flag|IntFlag|Generic|Protocol|ABC|ABCMeta|namedtuple"
     r"|NamedTuple|TypedDict|TYPE_CHECKING|abstractmethod)\b|dataclass|overload|contextmanager"
 )
+METHODS = set(
+    "append clear copy count endswith extend find get index insert isalnum isalpha isdigit islower isspace isupper items"
+    " join keys ljust lower lstrip partition pop remove replace reverse rfind rjust rpartition rsplit rstrip setdefault"
+    " split splitlines startswith strip update upper values zfill bit_length".split()
+)
 BARRED_NODES = (
     ast.Global, ast.AsyncFunctionDef, ast.AsyncFor, ast.AsyncWith, ast.Await, ast.Div, ast.MatMult, ast.Import,
 )
@@ -74,6 +79,19 @@ class FormTest(unittest.TestCase):
                     self.assertNotIsInstance(node.value, (float, complex), name)
                     if isinstance(node.value, str):
                         self.assertNotIn("%", node.value, name)
+
+    def test_methods(self):
+        for name, tree in trees():
+            for node in ast.walk(tree):
+                if isinstance(node, ast.Call) and isinstance(node.func, ast.Attribute):
+                    self.assertIn(node.func.attr, METHODS, name)
+                    self.assertEqual(node.keywords, [], name)
+
+    def test_generators(self):
+        # Classes that compare are to come, and beside these any, all and their like take lists.
+        for name, tree in trees():
+            for node in ast.walk(tree):
+                self.assertNotIsInstance(node, (ast.GeneratorExp, ast.Yield, ast.YieldFrom), name)
 
     def test_module_level(self):
         kinds = (ast.FunctionDef, ast.ClassDef, ast.ImportFrom, ast.Assign)

@@ -23,6 +23,16 @@ FUNCTIONS = {
         "opened": "(works, story, *, lot=(), most=200)",
         "allowed": "(works, story, *, lot=(), most=200)",
     },
+    "runs": {
+        "run_with": "(works, story, beat, stand, *, lot=(), most=200)",
+        "shows_run": "(works, story, thing, *, lot=())",
+    },
+    "claims": {"is_claim": "(works, thing)", "holds": "(works, claim, stand)"},
+    "claimtext": {"claim_text": "(claim)", "claim_in": "(works, text)"},
+    "sure": {
+        "failing": "(works, story, beat, claim, *, lot=(), most=200)",
+        "bounds": "(works, story, beat, some, *, lot=(), most=200)",
+    },
 }
 
 

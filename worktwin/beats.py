@@ -1,12 +1,12 @@
 """What may be, and what is expected, behind a beat."""
 
 from worktwin.moves import behind_all, due_modes, flowing, moved
+from worktwin.stands import tupled
 
 
 def behind(works, stand, deed, *, lot=()):
     """The rising list of all stands that may be there behind that beat."""
-    modes, levels = stand
-    return behind_all(works, [(tuple(modes), tuple(levels))], deed, lot)
+    return behind_all(works, [tupled(stand)], deed, lot)
 
 
 def expected(works, stand, deed):

@@ -16,6 +16,12 @@ def is_stand(works, thing):
     return all([is_within(level, 0, box[1]) for box, level in zip(boxes, levels)])
 
 
+def tupled(stand):
+    """The same stand, made of tuples."""
+    modes, levels = stand
+    return (tuple(modes), tuple(levels))
+
+
 def begin_stands(works):
     """The rising list of the stands in which a run may begin."""
     modes = tuple([part[1][0] for part in works[2]])
@@ -28,6 +34,12 @@ def begin_stands(works):
 def level_sum(works, stand, some):
     """The sum of the levels of the boxes that have these NAMEs."""
     return sum([level for box, level in zip(works[1], stand[1]) if box[0] in some])
+
+
+def sum_span(works, stands, some):
+    """The pair of the least and the greatest sum of the levels of these boxes, in one or more stands."""
+    found = [level_sum(works, stand, some) for stand in stands]
+    return (min(found), max(found))
 
 
 def mode_in(works, stand, name):

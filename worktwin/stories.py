@@ -29,9 +29,14 @@ def told_story(works, story):
     return (list(deeds), sorted({tuple(sign) for sign in signs}))
 
 
+def check_beat(story, beat):
+    """Refuses a number that is none of the story's beats."""
+    if not 0 <= beat <= len(story[0]):
+        raise NoBeat(beat)
+
+
 def until(works, story, beat):
     """The story of that many first deeds, and of the signs of the beats up to it."""
+    check_beat(story, beat)
     deeds, signs = story
-    if not 0 <= beat <= len(deeds):
-        raise NoBeat(beat)
     return (list(deeds[:beat]), [tuple(sign) for sign in signs if sign[0] <= beat])
