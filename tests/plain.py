@@ -142,3 +142,101 @@ def claim_text(claim):
         return "mode " + claim[1] + " " + ",".join(claim[2])
     within = [claim[1]] if word == "not" else claim[1]
     return "(" + word + "".join(" " + claim_text(one) for one in within) + ")"
+
+
+def runs_where(works, story, lot, where):
+    """All runs that have, at the beats of where, stands in which its claims hold; None where they are too many."""
+    found = runs(works, story, lot)
+    if found is None:
+        return None
+    return [run for run in found if all(holds(works, claim, run[beat]) for beat, claim in where)]
+
+
+def stays(works, story, where, beat, stand):
+    """Whether a stand fits the signs of that beat, and the claims of that beat hold in it."""
+    if not all(fits(works, stand, sign) for sign in story[1] if sign[0] == beat):
+        return False
+    return all(holds(works, claim, stand) for at, claim in where if at == beat)
+
+
+def is_none_paper(works, story, paper, lot=(), where=()):
+    """Whether a list of lists of stands is a paper that there's no run."""
+    if not 1 <= len(paper) <= len(story[0]) + 1 or [row == [] for row in paper] != [False] * (len(paper) - 1) + [True]:
+        return False
+    if any(row != sorted(set(row)) for row in paper):
+        return False
+    if any(stays(works, story, where, 0, stand) and stand not in paper[0] for stand in begins(works)):
+        return False
+    for beat in range(1, len(paper)):
+        for ahead in paper[beat - 1]:
+            for stand in behind(works, ahead, story[0][beat - 1], lot):
+                if stays(works, story, where, beat, stand) and stand not in paper[beat]:
+                    return False
+    return True
+
+
+def lump_stands(lump):
+    """The stands of a lump."""
+    modes, ranges = lump
+    return [(modes, levels) for levels in itertools.product(*[range(low, high + 1) for low, high in ranges])]
+
+
+def is_one_lump(stands):
+    """Whether these stands, of like modes, are those of one lump."""
+    ranges = [(min(levels), max(levels)) for levels in zip(*[stand[1] for stand in stands])]
+    return set(lump_stands((stands[0][0], tuple(ranges)))) == set(stands)
+
+
+def are_lumps(stands, rows):
+    """Whether these rising lumps have just these stands, each once, and no two make one."""
+    found = [stand for lump in rows for stand in lump_stands(lump)]
+    if rows != sorted(set(rows)) or sorted(found) != sorted(stands):
+        return False
+    pairs = [pair for pair in itertools.combinations(rows, 2) if pair[0][0] == pair[1][0]]
+    return not any(is_one_lump(lump_stands(one) + lump_stands(other)) for one, other in pairs)
+
+
+def sum_of(works, some, stand):
+    """The sum of the levels of these boxes."""
+    return sum(level for box, level in zip(works[1], stand[1]) if box[0] in some)
+
+
+def subsets(names):
+    """All tuples of some of these, those of fewer first, then as they rise."""
+    return [some for many in range(len(names) + 1) for some in itertools.combinations(sorted(names), many)]
+
+
+def sums(works, stands):
+    """Of each tuple of boxes the least and the greatest sum."""
+    found = []
+    for some in subsets([box[0] for box in works[1]])[1:]:
+        held = [sum_of(works, some, stand) for stand in stands]
+        found.append((some, min(held), max(held)))
+    return sorted(found)
+
+
+def spanned(works, stands):
+    """All stands whose sums are within those of the stands of like modes."""
+    found = []
+    for stand in all_stands(works):
+        alike = [one for one in stands if one[0] == stand[0]]
+        if alike and all(low <= sum_of(works, some, stand) <= high for some, low, high in sums(works, alike)):
+            found.append(stand)
+    return sorted(found)
+
+
+def explaining(works, story):
+    """All lots that explain a story; None where its runs are too many to try."""
+    found = []
+    for lot in subsets([part[0] for part in works[2]]):
+        every = runs(works, story, lot)
+        if every is None:
+            return None
+        if every:
+            found.append(lot)
+    return found
+
+
+def least(tuples):
+    """Those of these tuples within which no other one is, in their order."""
+    return [one for one in tuples if not any(set(other) < set(one) for other in tuples)]

@@ -33,6 +33,22 @@ FUNCTIONS = {
         "failing": "(works, story, beat, claim, *, lot=(), most=200)",
         "bounds": "(works, story, beat, some, *, lot=(), most=200)",
     },
+    "nonepapers": {
+        "none_paper": "(works, story, *, lot=(), where=(), most=200)",
+        "shows_none": "(works, story, thing, *, lot=(), where=())",
+    },
+    "lumps": {"lumps": "(works, stands)", "shows_lumps": "(works, stands, thing)"},
+    "sums": {"sums": "(works, stands)", "spanned": "(works, stands)"},
+    "whatif": {
+        "what_if": "(works, story, deeds, *, lot=(), most=200)",
+        "what_bounds": "(works, story, deeds, some, *, lot=(), most=200)",
+    },
+    "lots": {
+        "explains": "(works, story, lot, *, most=200)",
+        "lots": "(works, story, *, most=200)",
+        "cores": "(works, story, *, most=200)",
+        "blamed": "(works, story, *, most=200)",
+    },
 }
 
 

@@ -2,7 +2,7 @@
 
 from worktwin.errors import TooMany
 from worktwin.moves import behind_all, leading_to
-from worktwin.signs import fits
+from worktwin.signs import fitting
 from worktwin.stands import begin_stands
 
 MOST = 200
@@ -10,8 +10,7 @@ MOST = 200
 
 def open_at(works, stands, signs, beat, most):
     """Those of these stands that fit the signs of that beat; refused where there are more than most."""
-    told = [sign for sign in signs if sign[0] == beat]
-    found = [stand for stand in stands if all([fits(works, stand, sign) for sign in told])]
+    found = fitting(works, stands, signs, beat)
     if len(found) > most:
         raise TooMany(most)
     return found

@@ -43,6 +43,12 @@ def fits(works, stand, sign):
     return mode_in(works, stand, sensor[2]) == reading
 
 
+def fitting(works, stands, signs, beat):
+    """Those of these stands that fit the signs of that beat."""
+    told = [sign for sign in signs if sign[0] == beat]
+    return [stand for stand in stands if all([fits(works, stand, sign) for sign in told])]
+
+
 def readings(works, stand, sensor):
     """The rising list of the readings of that sensor that fit the stand."""
     found = sensor_of(works, sensor)

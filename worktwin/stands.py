@@ -3,17 +3,18 @@
 from worktwin.words import is_tuple_of, is_within
 
 
+def are_modes(works, thing):
+    """Whether this is a tuple of a mode of each part."""
+    parts = works[2]
+    return is_tuple_of(thing, len(parts)) and all([mode in part[1] for part, mode in zip(parts, thing)])
+
+
 def is_stand(works, thing):
     """Whether this is a stand of that works."""
-    boxes, parts = works[1], works[2]
-    if not is_tuple_of(thing, 2):
+    boxes = works[1]
+    if not is_tuple_of(thing, 2) or not are_modes(works, thing[0]) or not is_tuple_of(thing[1], len(boxes)):
         return False
-    modes, levels = thing
-    if not is_tuple_of(modes, len(parts)) or not is_tuple_of(levels, len(boxes)):
-        return False
-    if not all([mode in part[1] for part, mode in zip(parts, modes)]):
-        return False
-    return all([is_within(level, 0, box[1]) for box, level in zip(boxes, levels)])
+    return all([is_within(level, 0, box[1]) for box, level in zip(boxes, thing[1])])
 
 
 def tupled(stand):
@@ -22,13 +23,18 @@ def tupled(stand):
     return (tuple(modes), tuple(levels))
 
 
+def levels_within(spans):
+    """The rising list of all levels that are, box by box, within these pairs of least and greatest."""
+    found = [()]
+    for low, high in spans:
+        found = [(*ahead, level) for ahead in found for level in range(low, high + 1)]
+    return found
+
+
 def begin_stands(works):
     """The rising list of the stands in which a run may begin."""
     modes = tuple([part[1][0] for part in works[2]])
-    found = [()]
-    for name, cap, low, high in works[1]:
-        found = [(*ahead, level) for ahead in found for level in range(low, high + 1)]
-    return [(modes, levels) for levels in found]
+    return [(modes, levels) for levels in levels_within([(low, high) for name, cap, low, high in works[1]])]
 
 
 def level_sum(works, stand, some):

@@ -38,6 +38,19 @@ def rises(things):
     return all([ahead < one for ahead, one in zip(things, things[1:])])
 
 
+def is_rising_list(thing, is_one):
+    """Whether this is a list that rises, of such as is_one takes alone."""
+    return isinstance(thing, list) and all([is_one(one) for one in thing]) and rises(thing)
+
+
+def tuples_of(names):
+    """All tuples of some of these, in their order, the one of none too."""
+    found = [()]
+    for name in names:
+        found = found + [(*ahead, name) for ahead in found]
+    return found
+
+
 def number_in(word, high):
     """The number, from 0 to high, that this word writes in plain figures; None where it writes none."""
     # Asked first, since Python reads no word of thousands of figures.
