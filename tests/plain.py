@@ -240,3 +240,87 @@ def explaining(works, story):
 def least(tuples):
     """Those of these tuples within which no other one is, in their order."""
     return [one for one in tuples if not any(set(other) < set(one) for other in tuples)]
+
+
+def is_run(works, story, run, lot=()):
+    """Whether a list of stands is a run."""
+    deeds, signs = story
+    if len(run) != len(deeds) + 1 or run[0] not in begins(works):
+        return False
+    if any(run[at + 1] not in behind(works, run[at], deed, lot) for at, deed in enumerate(deeds)):
+        return False
+    return all(fits(works, run[sign[0]], sign) for sign in signs)
+
+
+def hitting(parts, tuples):
+    """The least tuples of these parts that have a part of each of those."""
+    return least([some for some in subsets(parts) if all(set(some) & set(one) for one in tuples)])
+
+
+def level_of(works, box, stand):
+    """The level of a box."""
+    return dict(zip([one[0] for one in works[1]], stand[1]))[box]
+
+
+def is_span(works, story, lot, rows, beat, box, row):
+    """Whether a row of an account tells the bounds of a box at a beat, of which all that is allowed are these rows."""
+    held = [level_of(works, box[0], stand) for stand in rows[beat]]
+    told_beat, name, low, first, under, high, last, over = row
+    if (told_beat, name, low, high) != (beat, box[0], min(held), max(held)):
+        return False
+    for level, run, paper, end, claim in (
+        (low, first, under, 0, ("sum", (name,), 0, low - 1)),
+        (high, last, over, box[1], ("sum", (name,), high + 1, 40)),
+    ):
+        if not is_run(works, story, run, lot) or level_of(works, name, run[beat]) != level:
+            return False
+        if (paper is None) != (level == end):
+            return False
+        if paper is not None and not is_none_paper(works, story, paper, lot, [(beat, claim)]):
+            return False
+    return True
+
+
+def is_account(works, story, thing):
+    """Whether a tuple of three lists of tuples is an account, by all lots that explain the story."""
+    well, ill, spans = thing
+    parts = [part[0] for part in works[2]]
+    every = explaining(works, story)
+    if [row[0] for row in well] != least(every) or [row[0] for row in ill] != hitting(parts, every):
+        return False
+    if not all(is_run(works, story, run, lot) for lot, run in well):
+        return False
+    others = [tuple(part for part in parts if part not in core) for core, _ in ill]
+    if not all(is_none_paper(works, story, row[1], lot) for row, lot in zip(ill, others)):
+        return False
+    if not every:
+        return spans == []
+    rows = allowed(works, story, well[0][0])
+    places = [(beat, box) for beat in range(len(rows)) for box in works[1]]
+    if len(places) != len(spans):
+        return False
+    return all(is_span(works, story, well[0][0], rows, beat, box, row) for (beat, box), row in zip(places, spans))
+
+
+def expected(works, stand, deed):
+    """What is expected behind a beat."""
+    sets = dict(pair for known, pairs in works[4] if known == deed for pair in pairs)
+    modes = tuple(sets.get(part[0], mode) for part, mode in zip(works[2], stand[0]))
+    return (modes, flow(works, modes, stand[1], [(pipe[4] + pipe[5]) // 2 for pipe in works[3]]))
+
+
+def far(one, other):
+    """How far two stands are from each other."""
+    modes = sum(10 for mode, wanted in zip(one[0], other[0]) if mode != wanted)
+    return modes + sum(max(level, wanted) - min(level, wanted) for level, wanted in zip(one[1], other[1]))
+
+
+def model(works, story, rows):
+    """The model of a story, and the beats at which it is corrected, by what is allowed at each beat."""
+    found, turned = [min(rows[0])], []
+    for beat, deed in enumerate(story[0], 1):
+        wanted = expected(works, found[-1], deed)
+        found.append(sorted((far(stand, wanted), stand) for stand in rows[beat])[0][1])
+        if found[-1] != wanted:
+            turned.append(beat)
+    return found, turned

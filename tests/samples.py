@@ -100,6 +100,54 @@ TUB = (
 )
 FILL = ["fill", "stop"]
 
+# Four taps, all opened by one deed: two that give 1, one that gives 2, one that gives nothing.
+TAPS = (
+    "taps",
+    (("tub", 9, 0, 0),),
+    tuple([(name, ("off", "on"), ()) for name in ("a", "b", "c", "d")]),
+    (("", "tub", "a", "on", 1, 1), ("", "tub", "b", "on", 1, 1), ("", "tub", "c", "on", 2, 2)),
+    (("go", (("a", "on"), ("b", "on"), ("c", "on"), ("d", "on"))),),
+    (("eyea", "part", "a"), ("eyeb", "part", "b"), ("eyec", "part", "c"), ("eyed", "part", "d"), ("rod", "sum", ("tub",), 0)),
+)
+
+# Signs behind the deed, what lots they leave, which cores, and who is blamed.
+TAPS_KNOWN = (
+    # Nothing need act otherwise.
+    ([], [()], [], ((), ())),
+    ([(1, "rod", 4)], [()], [], ((), ())),
+    ([(1, "rod", 4), (1, "eyea", "on")], [()], [], ((), ())),
+    # One part.
+    ([(1, "eyed", "off")], [("d",)], [("d",)], (("d",), ("d",))),
+    ([(1, "eyea", "off"), (1, "rod", 3)], [("a",)], [("a",)], (("a",), ("a",))),
+    # Either of two.
+    ([(1, "rod", 3)], [("a",), ("b",)], [("a", "b")], ((), ("a", "b"))),
+    # Two parts.
+    ([(1, "eyea", "off"), (1, "eyed", "off")], [("a", "d")], [("a",), ("d",)], (("a", "d"), ("a", "d"))),
+    ([(1, "rod", 2), (1, "eyec", "on")], [("a", "b")], [("a",), ("b",)], (("a", "b"), ("a", "b"))),
+    # One, or two others: fewer parts first.
+    ([(1, "rod", 2)], [("c",), ("a", "b")], [("a", "c"), ("b", "c")], ((), ("a", "b", "c"))),
+    # One, and either of two.
+    ([(1, "rod", 1)], [("a", "c"), ("b", "c")], [("c",), ("a", "b")], (("c",), ("a", "b", "c"))),
+    (
+        [(1, "rod", 2), (1, "eyed", "off")],
+        [("c", "d"), ("a", "b", "d")],
+        [("d",), ("a", "c"), ("b", "c")],
+        (("d",), ("a", "b", "c", "d")),
+    ),
+    # Three, and all.
+    ([(1, "rod", 0)], [("a", "b", "c")], [("a",), ("b",), ("c",)], (("a", "b", "c"), ("a", "b", "c"))),
+    (
+        [(1, "rod", 0), (1, "eyed", "off")],
+        [("a", "b", "c", "d")],
+        [("a",), ("b",), ("c",), ("d",)],
+        (("a", "b", "c", "d"), ("a", "b", "c", "d")),
+    ),
+    # Not even all.
+    ([(1, "rod", 5)], [], [()], ((), ())),
+    ([(0, "eyea", "on")], [], [()], ((), ())),
+    ([(1, "rod", 4), (1, "eyea", "off")], [], [()], ((), ())),
+)
+
 # NAMEs that are words of claims.
 WORDY = (
     "all",
@@ -252,6 +300,22 @@ def any_works(rng, boxes=3, parts=3, cap=4):
         else:
             sensors.append((name, "part", rng.choice(found_parts)[0]))
     return ("any", tuple(found_boxes), tuple(found_parts), tuple(pipes), tuple(deeds), tuple(sensors))
+
+
+def any_taps(rng):
+    """A works of a tub, taps and drains, that deeds open and close, some of whose sensors are wanting."""
+    names = "abcd"[:rng.randint(2, 4)]
+    parts = tuple([(name, ("off", "on"), rng.choice(((), (), ("off",), ("on",)))) for name in names])
+    pipes = []
+    for name in names:
+        least = rng.randint(1, 2)
+        ends = rng.choice((("", "tub"), ("", "tub"), ("tub", "")))
+        pipes.append((*ends, name, "on", least, least))
+    go = tuple([(name, "on") for name in names if rng.random() < 0.8]) or ((names[0], "on"),)
+    stop = tuple([(name, "off") for name in names if rng.random() < 0.5]) or ((names[-1], "off"),)
+    eyes = [(f"eye{name}", "part", name) for name in names if rng.random() < 0.3]
+    sensors = (*eyes, ("rod", "sum", ("tub",), 0))
+    return ("taps", (("tub", 9, 2, 2),), parts, tuple(pipes), (("go", go), ("stop", stop)), sensors)
 
 
 def any_stand(rng, works):

@@ -49,6 +49,22 @@ FUNCTIONS = {
         "cores": "(works, story, *, most=200)",
         "blamed": "(works, story, *, most=200)",
     },
+    "lotpapers": {
+        "lot_paper": "(works, story, lot, *, most=200)",
+        "shows_lot": "(works, story, lot, thing)",
+    },
+    "account": {
+        "account": "(works, story, *, most=200)",
+        "shows_account": "(works, story, thing)",
+    },
+    "model": {
+        "model": "(works, story, *, lot=(), most=200)",
+        "corrected": "(works, story, *, lot=(), most=200)",
+    },
+    "joining": {
+        "joined": "(works, stories)",
+        "shared": "(works, stories, *, lot=(), most=200)",
+    },
 }
 
 

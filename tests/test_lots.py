@@ -3,81 +3,17 @@ import random
 import unittest
 
 from tests import plain
-from tests.samples import FILL, LEAST, MILL, TUB, any_story, any_works, boxes_of, replaced, swapped
+from tests.samples import FILL, LEAST, MILL, TAPS, TAPS_KNOWN, TUB, any_story, any_taps, any_works, boxes_of, swapped
 from worktwin.errors import TooMany
 from worktwin.lots import blamed, cores, explains, lots
 from worktwin.nonepapers import none_paper, shows_none
 
-# Four taps, all opened by one deed: two that give 1, one that gives 2, one that gives nothing.
-TAPS = (
-    "taps",
-    (("tub", 9, 0, 0),),
-    tuple([(name, ("off", "on"), ()) for name in ("a", "b", "c", "d")]),
-    (("", "tub", "a", "on", 1, 1), ("", "tub", "b", "on", 1, 1), ("", "tub", "c", "on", 2, 2)),
-    (("go", (("a", "on"), ("b", "on"), ("c", "on"), ("d", "on"))),),
-    (("eyea", "part", "a"), ("eyeb", "part", "b"), ("eyec", "part", "c"), ("eyed", "part", "d"), ("rod", "sum", ("tub",), 0)),
-)
-
-# Signs behind the deed, what lots they leave, which cores, and who is blamed.
-KNOWN = (
-    # Nothing need act otherwise.
-    ([], [()], [], ((), ())),
-    ([(1, "rod", 4)], [()], [], ((), ())),
-    ([(1, "rod", 4), (1, "eyea", "on")], [()], [], ((), ())),
-    # One part.
-    ([(1, "eyed", "off")], [("d",)], [("d",)], (("d",), ("d",))),
-    ([(1, "eyea", "off"), (1, "rod", 3)], [("a",)], [("a",)], (("a",), ("a",))),
-    # Either of two.
-    ([(1, "rod", 3)], [("a",), ("b",)], [("a", "b")], ((), ("a", "b"))),
-    # Two parts.
-    ([(1, "eyea", "off"), (1, "eyed", "off")], [("a", "d")], [("a",), ("d",)], (("a", "d"), ("a", "d"))),
-    ([(1, "rod", 2), (1, "eyec", "on")], [("a", "b")], [("a",), ("b",)], (("a", "b"), ("a", "b"))),
-    # One, or two others: fewer parts first.
-    ([(1, "rod", 2)], [("c",), ("a", "b")], [("a", "c"), ("b", "c")], ((), ("a", "b", "c"))),
-    # One, and either of two.
-    ([(1, "rod", 1)], [("a", "c"), ("b", "c")], [("c",), ("a", "b")], (("c",), ("a", "b", "c"))),
-    (
-        [(1, "rod", 2), (1, "eyed", "off")],
-        [("c", "d"), ("a", "b", "d")],
-        [("d",), ("a", "c"), ("b", "c")],
-        (("d",), ("a", "b", "c", "d")),
-    ),
-    # Three, and all.
-    ([(1, "rod", 0)], [("a", "b", "c")], [("a",), ("b",), ("c",)], (("a", "b", "c"), ("a", "b", "c"))),
-    (
-        [(1, "rod", 0), (1, "eyed", "off")],
-        [("a", "b", "c", "d")],
-        [("a",), ("b",), ("c",), ("d",)],
-        (("a", "b", "c", "d"), ("a", "b", "c", "d")),
-    ),
-    # Not even all.
-    ([(1, "rod", 5)], [], [()], ((), ())),
-    ([(0, "eyea", "on")], [], [()], ((), ())),
-    ([(1, "rod", 4), (1, "eyea", "off")], [], [()], ((), ())),
-)
-
 ALL = (lots, cores, blamed)
-
-
-def any_taps(rng):
-    """A works of a tub, taps and drains, that deeds open and close, some of whose sensors are wanting."""
-    names = "abcd"[:rng.randint(2, 4)]
-    parts = tuple([(name, ("off", "on"), rng.choice(((), (), ("off",), ("on",)))) for name in names])
-    pipes = []
-    for name in names:
-        least = rng.randint(1, 2)
-        ends = rng.choice((("", "tub"), ("", "tub"), ("tub", "")))
-        pipes.append((*ends, name, "on", least, least))
-    go = tuple([(name, "on") for name in names if rng.random() < 0.8]) or ((names[0], "on"),)
-    stop = tuple([(name, "off") for name in names if rng.random() < 0.5]) or ((names[-1], "off"),)
-    eyes = [(f"eye{name}", "part", name) for name in names if rng.random() < 0.3]
-    sensors = (*eyes, ("rod", "sum", ("tub",), 0))
-    return ("taps", (("tub", 9, 2, 2),), parts, tuple(pipes), (("go", go), ("stop", stop)), sensors)
 
 
 class KnownTest(unittest.TestCase):
     def test_known_by_hand(self):
-        for signs, wanted_lots, wanted_cores, wanted_blamed in KNOWN:
+        for signs, wanted_lots, wanted_cores, wanted_blamed in TAPS_KNOWN:
             with self.subTest(signs):
                 story = (["go"], signs)
                 self.assertEqual(lots(TAPS, story), wanted_lots)
@@ -85,7 +21,7 @@ class KnownTest(unittest.TestCase):
                 self.assertEqual(blamed(TAPS, story), wanted_blamed)
 
     def test_explains_just_what_has_all_of_one_of_lots(self):
-        for signs, wanted, *_ in KNOWN:
+        for signs, wanted, *_ in TAPS_KNOWN:
             for lot in plain.subsets("abcd"):
                 found = any(set(one) <= set(lot) for one in wanted)
                 self.assertIs(explains(TAPS, (["go"], signs), lot), found)
@@ -111,7 +47,7 @@ class KnownTest(unittest.TestCase):
         self.assertEqual(blamed(TUB, (FILL, [(1, "rod", 1)])), ((), ("plug", "tap")))
 
     def test_told_lists_are_the_askers_own(self):
-        for signs, *_ in KNOWN:
+        for signs, *_ in TAPS_KNOWN:
             for ask in (lots, cores):
                 found = ask(TAPS, (["go"], signs))
                 again = copy.deepcopy(found)
@@ -122,7 +58,7 @@ class KnownTest(unittest.TestCase):
                 self.assertEqual(ask(TAPS, (["go"], signs)), again)
 
     def test_lists_for_tuples_and_names(self):
-        for signs, *_ in KNOWN:
+        for signs, *_ in TAPS_KNOWN:
             handed = [swapped(TAPS), swapped((["go"], signs))]
             ahead = copy.deepcopy(handed)
             for ask in ALL:

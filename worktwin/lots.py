@@ -34,7 +34,12 @@ def meeting(parts, known):
     return least_tuples(parts, lambda some: all([meets(some, lot) for lot in known]))
 
 
-def lots(works, story, *, most=MOST):
+def without(parts, some):
+    """The lot of all other ones of these parts."""
+    return tuple([part for part in parts if part not in some])
+
+
+def least_lots(works, story, most):
     """All least lots that explain the story, those of fewer parts first."""
     parts = names_of(works[2])
     # By all parts most stands are open: where these aren't too many, no lesser lot's are.
@@ -43,14 +48,19 @@ def lots(works, story, *, most=MOST):
     return least_tuples(parts, lambda lot: explains(works, story, lot, most=most))
 
 
+def lots(works, story, *, most=MOST):
+    """All least lots that explain the story, those of fewer parts first."""
+    return least_lots(works, story, most)
+
+
 def cores(works, story, *, most=MOST):
     """All least tuples of parts that have a part of each lot that explains the story, likewise."""
-    return meeting(names_of(works[2]), lots(works, story, most=most))
+    return meeting(names_of(works[2]), least_lots(works, story, most))
 
 
 def blamed(works, story, *, most=MOST):
     """The pair of the parts that all of the least lots have, and of those that some have."""
-    known = lots(works, story, most=most)
+    known = least_lots(works, story, most)
     parts = names_of(works[2])
     some = tuple([part for part in parts if any([part in lot for lot in known])])
     return (tuple([part for part in some if all([part in lot for lot in known])]), some)

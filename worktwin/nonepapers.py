@@ -1,38 +1,34 @@
 """Papers that show that there's no run: at some beat none of all stands that might be there is left."""
 
-from worktwin.allowed import MOST, opened
+from worktwin.allowed import MOST, open_behind, opened
 from worktwin.claims import holds
-from worktwin.moves import behind_all
-from worktwin.signs import fitting
-from worktwin.stands import begin_stands, is_stand
+from worktwin.stands import is_stand
 from worktwin.words import is_rising_list
 
 
-def left(works, stands, story, where, beat):
-    """Those of these stands that fit the signs of that beat, and in which its claims hold."""
-    claims = [claim for at, claim in where if at == beat]
-    found = fitting(works, stands, story[1], beat)
+def left_behind(works, rows, story, lot, where):
+    """What is left at the beat behind these rows: it may be there behind the last of them, by signs and claims."""
+    claims = [claim for at, claim in where if at == len(rows)]
+    found = open_behind(works, story, rows, lot)
     return [stand for stand in found if all([holds(works, claim, stand) for claim in claims])]
 
 
-def left_behind(works, rows, story, lot, where):
-    """What is left at the beat behind these rows, of all that may be there behind the last of them."""
-    beat = len(rows)
-    if beat == 0:
-        return left(works, begin_stands(works), story, where, beat)
-    return left(works, behind_all(works, rows[-1], story[0][beat - 1], lot), story, where, beat)
+def paper_from(works, story, rows, lot, where):
+    """A paper that begins with these rows, each of some stands; None where at each beat behind some are left."""
+    # Copied, so that papers that begin alike have no list together.
+    found = [list(row) for row in rows]
+    while len(found) <= len(story[0]):
+        found.append(left_behind(works, found, story, lot, where))
+        if not found[-1]:
+            return found
+    return None
 
 
 def none_paper(works, story, *, lot=(), where=(), most=MOST):
     """None where there's a run in which the claims hold at their beats; else a paper that there's none."""
     # What is open counts, whatever the claims leave of it.
     opened(works, story, lot=lot, most=most)
-    rows = []
-    for beat in range(len(story[0]) + 1):
-        rows.append(left_behind(works, rows, story, lot, where))
-        if not rows[-1]:
-            return rows
-    return None
+    return paper_from(works, story, [], lot, where)
 
 
 def is_paper(works, thing, beats):

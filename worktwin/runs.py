@@ -7,22 +7,30 @@ from worktwin.stands import begin_stands, is_stand, tupled
 from worktwin.stories import check_beat
 
 
-def run_with(works, story, beat, stand, *, lot=(), most=MOST):
-    """A run that has that stand at that beat; None where there's none."""
-    check_beat(story, beat)
-    deeds = story[0]
-    rows = allowed(works, story, lot=lot, most=most)
-    wanted = tupled(stand)
-    if wanted not in rows[beat]:
-        return None
+def run_through(works, deeds, rows, beat, stand, lot):
+    """A run that has at that beat that stand, one of those allowed there; rows are all that is allowed."""
     # What is allowed leads back to a beginning and on to the end, so no step of either way fails.
-    run = [wanted]
+    run = [stand]
     for at in range(beat - 1, -1, -1):
         run.insert(0, leading_to(works, rows[at], deeds[at], lot, [run[0]])[0])
     for at in range(beat, len(deeds)):
         coming = behind_all(works, [run[-1]], deeds[at], lot)
         run.append([one for one in coming if one in rows[at + 1]][0])
     return run
+
+
+def some_run(works, story, lot, most):
+    """A run by a lot that explains the story."""
+    rows = allowed(works, story, lot=lot, most=most)
+    return run_through(works, story[0], rows, 0, rows[0][0], lot)
+
+
+def run_with(works, story, beat, stand, *, lot=(), most=MOST):
+    """A run that has that stand at that beat; None where there's none."""
+    check_beat(story, beat)
+    rows = allowed(works, story, lot=lot, most=most)
+    wanted = tupled(stand)
+    return run_through(works, story[0], rows, beat, wanted, lot) if wanted in rows[beat] else None
 
 
 def goes(works, deeds, run, lot):

@@ -1,8 +1,7 @@
 """What is sure: claims that hold in all that is allowed, and least and greatest sums."""
 
-from worktwin.allowed import MOST, allowed
+from worktwin.allowed import MOST, allowed, check_run
 from worktwin.claims import holds
-from worktwin.errors import NoRun
 from worktwin.stands import sum_span
 from worktwin.stories import check_beat
 
@@ -11,17 +10,21 @@ def allowed_at(works, story, beat, lot, most):
     """The rising list of the stands allowed at that beat, one at least; refused where there's none."""
     check_beat(story, beat)
     stands = allowed(works, story, lot=lot, most=most)[beat]
-    if not stands:
-        raise NoRun(tuple(lot))
+    check_run(stands, lot)
     return stands
+
+
+def least_failing(works, claim, stands):
+    """The first of these stands in which the claim doesn't hold; None where it holds in all."""
+    for stand in stands:
+        if not holds(works, claim, stand):
+            return stand
+    return None
 
 
 def failing(works, story, beat, claim, *, lot=(), most=MOST):
     """The least stand allowed at that beat in which the claim doesn't hold; None where it holds in all."""
-    for stand in allowed_at(works, story, beat, lot, most):
-        if not holds(works, claim, stand):
-            return stand
-    return None
+    return least_failing(works, claim, allowed_at(works, story, beat, lot, most))
 
 
 def bounds(works, story, beat, some, *, lot=(), most=MOST):
