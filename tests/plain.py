@@ -324,3 +324,44 @@ def model(works, story, rows):
         if found[-1] != wanted:
             turned.append(beat)
     return found, turned
+
+
+def leads(works, stands, deeds, goal, keep, lot):
+    """Whether a list of deeds leads from these stands."""
+    if keep is not None and not all(holds(works, keep, stand) for stand in stands):
+        return False
+    for deed in deeds:
+        stands = sorted({after for stand in stands for after in behind(works, stand, deed, lot)})
+        if keep is not None and not all(holds(works, keep, stand) for stand in stands):
+            return False
+    return all(holds(works, goal, stand) for stand in stands)
+
+
+def first_list(works, stands, goal, keep, beats, lot):
+    """The first list of deeds that leads from these stands."""
+    names = sorted(["wait", *[deed[0] for deed in works[4]]])
+    for many in range(beats + 1):
+        for deeds in itertools.product(names, repeat=many):
+            if leads(works, stands, deeds, goal, keep, lot):
+                return list(deeds)
+    return None
+
+
+def all_readings(works, sensor):
+    """All readings that a sensor may have."""
+    return range(41) if sensor[1] == "sum" else [part[1] for part in works[2] if part[0] == sensor[2]][0]
+
+
+def needed(works, stands, goal, keep, beats, lot):
+    """The first sensor that helps, with a list for each of its readings."""
+    if first_list(works, stands, goal, keep, beats, lot) is not None:
+        return None
+    for sensor in works[5]:
+        rows = []
+        for reading in sorted(all_readings(works, sensor)):
+            fit = [stand for stand in stands if fits(works, stand, (0, sensor[0], reading))]
+            if fit:
+                rows.append((reading, first_list(works, fit, goal, keep, beats, lot)))
+        if all(deeds is not None for _, deeds in rows):
+            return (sensor[0], rows)
+    return None

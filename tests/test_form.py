@@ -27,6 +27,9 @@ BARRED_NODES = (
 )
 
 
+DOUBLE = ("__init__", "__eq__", "__len__")
+
+
 def trees():
     for file in FILES:
         yield file.name, ast.parse(file.read_text(encoding="utf-8"))
@@ -42,6 +45,33 @@ def bound_names(tree):
             yield node.arg
         elif isinstance(node, ast.alias):
             yield node.asname or node.name
+
+
+def own_methods():
+    """The names of all methods of the package's classes."""
+    for _, tree in trees():
+        for node in ast.walk(tree):
+            if isinstance(node, ast.ClassDef):
+                yield from [one.name for one in node.body if isinstance(one, ast.FunctionDef)]
+
+
+def is_simple(node):
+    """Whether this may stand in a finally as a value."""
+    if isinstance(node, (ast.List, ast.Tuple)):
+        return all(is_simple(one) for one in node.elts)
+    if isinstance(node, ast.BinOp) and isinstance(node.op, ast.Add):
+        return is_simple(node.left) and is_simple(node.right)
+    return isinstance(node, (ast.Name, ast.Constant, ast.Attribute))
+
+
+def may_end(node):
+    """Whether this row may stand in a finally."""
+    if isinstance(node, ast.Assign):
+        return is_simple(node.value)
+    if isinstance(node, ast.AugAssign):
+        return isinstance(node.value, ast.Constant)
+    call = node.value if isinstance(node, ast.Expr) else None
+    return isinstance(call, ast.Call) and call.func.attr in ("append", "clear") and all(is_simple(one) for one in call.args)
 
 
 class FormTest(unittest.TestCase):
@@ -81,14 +111,47 @@ class FormTest(unittest.TestCase):
                         self.assertNotIn("%", node.value, name)
 
     def test_methods(self):
+        own = set(own_methods())
         for name, tree in trees():
             for node in ast.walk(tree):
                 if isinstance(node, ast.Call) and isinstance(node.func, ast.Attribute):
-                    self.assertIn(node.func.attr, METHODS, name)
-                    self.assertEqual(node.keywords, [], name)
+                    self.assertIn(node.func.attr, METHODS | own, name)
+                    if node.func.attr in METHODS:
+                        self.assertEqual(node.keywords, [], name)
+
+    def test_no_name_is_a_method_and_an_attribute(self):
+        own = set(own_methods())
+        for name, tree in trees():
+            for node in ast.walk(tree):
+                if isinstance(node, ast.Attribute) and isinstance(node.ctx, ast.Store):
+                    self.assertNotIn(node.attr, own | METHODS, name)
+
+    def test_classes(self):
+        for name, tree in trees():
+            for node in ast.walk(tree):
+                if isinstance(node, ast.ClassDef):
+                    self.assertIn(node, tree.body, name)
+                    self.assertEqual((node.decorator_list, node.keywords), ([], []), name)
+                    for one in [one for one in node.body if isinstance(one, ast.FunctionDef)]:
+                        self.assertRegex(one.name, r"\A[a-z][a-z0-9_]*\Z|\A(" + "|".join(DOUBLE) + r")\Z", name)
+                        self.assertEqual(one.args.args[0].arg, "self", name)
+
+    def test_no_star_in_an_index(self):
+        for name, tree in trees():
+            for node in ast.walk(tree):
+                if isinstance(node, ast.Subscript):
+                    self.assertFalse(any(isinstance(one, ast.Starred) for one in ast.walk(node.slice)), name)
+
+    def test_finally(self):
+        for name, tree in trees():
+            for node in ast.walk(tree):
+                if isinstance(node, ast.Try):
+                    self.assertTrue(all(may_end(one) for one in node.finalbody), name)
+                    for handler in node.handlers:
+                        self.assertRegex(handler.type.id, r"\A(Bad|No|Too)[A-Z]", name)
 
     def test_generators(self):
-        # Classes that compare are to come, and beside these any, all and their like take lists.
+        # There are classes that compare, and beside these any, all and their like take lists.
         for name, tree in trees():
             for node in ast.walk(tree):
                 self.assertNotIsInstance(node, (ast.GeneratorExp, ast.Yield, ast.YieldFrom), name)
@@ -109,13 +172,13 @@ class FormTest(unittest.TestCase):
                     defined = (PACKAGE / f"{node.module.split('.')[1]}.py").read_text(encoding="utf-8")
                     for one in node.names:
                         self.assertIsNone(one.asname, name)
-                        self.assertRegex(defined, rf"(?m)^(def|class) {one.name}\(|^{one.name} = ", name)
+                        self.assertRegex(defined, rf"(?m)^(def|class) {one.name}[(:]|^{one.name} = ", name)
 
     def test_names(self):
         known = set(dir(__builtins__)) if not isinstance(__builtins__, dict) else set(__builtins__)
         for name, tree in trees():
             for bound in bound_names(tree):
-                self.assertRegex(bound, r"\A[A-Za-z][A-Za-z0-9_]*\Z|\A__init__\Z", name)
+                self.assertRegex(bound, r"\A[A-Za-z][A-Za-z0-9_]*\Z|\A(" + "|".join(DOUBLE) + r")\Z", name)
                 self.assertNotIn(bound, known, name)
 
     def test_imports_are_not_bound_again(self):

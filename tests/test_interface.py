@@ -65,7 +65,22 @@ FUNCTIONS = {
         "joined": "(works, stories)",
         "shared": "(works, stories, *, lot=(), most=200)",
     },
+    "leading": {
+        "plan": "(works, story, goal, *, keep=None, beats=2, lot=(), most=200)",
+        "shows_plan": "(works, story, goal, thing, *, keep=None, lot=())",
+        "needed": "(works, story, goal, *, keep=None, beats=2, lot=(), most=200)",
+    },
+    "deskrows": {"deskrow_in": "(text)"},
 }
+
+# The methods of each class stand in the tests of its own file.
+CLASSES = {
+    "twin": {"Twin": "(works, *, lot=(), most=200)"},
+    "room": {"Room": "(*, most=200)"},
+    "desk": {"Desk": "(*, most=200)"},
+}
+
+VALUES = {"allowed": {"MOST": 200}, "leading": {"BEATS": 2}, "desk": {"DEEP": 2}}
 
 
 class InterfaceTest(unittest.TestCase):
@@ -78,6 +93,20 @@ class InterfaceTest(unittest.TestCase):
                     self.assertTrue(inspect.isfunction(found))
                     self.assertEqual(found.__module__, f"worktwin.{file}")
                     self.assertEqual(str(inspect.signature(found)), arguments)
+
+    def test_classes(self):
+        for file, classes in CLASSES.items():
+            module = importlib.import_module(f"worktwin.{file}")
+            for name, arguments in classes.items():
+                found = getattr(module, name)
+                self.assertTrue(inspect.isclass(found))
+                self.assertEqual(found.__module__, f"worktwin.{file}")
+                self.assertEqual(str(inspect.signature(found)), arguments)
+
+    def test_values(self):
+        for file, values in VALUES.items():
+            for name, worth in values.items():
+                self.assertEqual(getattr(importlib.import_module(f"worktwin.{file}"), name), worth)
 
 
 if __name__ == "__main__":

@@ -33,6 +33,13 @@ def is_tuple_within(thing, least, most):
     return isinstance(thing, tuple) and least <= len(thing) <= most
 
 
+def tuples_in(thing):
+    """The same thing, with a tuple for each list in it, itself too."""
+    if isinstance(thing, (list, tuple)):
+        return tuple([tuples_in(one) for one in thing])
+    return thing
+
+
 def rises(things):
     """Whether each of these, all of one kind, is greater than the one ahead."""
     return all([ahead < one for ahead, one in zip(things, things[1:])])
