@@ -329,6 +329,12 @@ def boxes_of(*highs):
     return replaced(LEAST, (1,), tuple([(name, 9, 0, high) for name, high in zip("abc", highs)]))
 
 
+def stuck_of(*highs):
+    """The same boxes, beside a part that a deed turns and a sensor tells of, and the story of one that stuck."""
+    works = replaced(boxes_of(*highs), (4,), (("go", (("p", "n"),)),))
+    return replaced(works, (5,), (("eye", "part", "p"),)), (["go"], [(1, "eye", "m")])
+
+
 def any_claim(rng, works, deep=3):
     """A claim of that works, at most so deep."""
     sort = rng.choice(("sum", "sum", "mode", "not", "all", "any") if deep > 1 else ("sum", "mode"))

@@ -4,7 +4,7 @@ import unittest
 
 from tests import plain
 from tests.samples import FILL, LEAST, MILL, TAPS, TAPS_KNOWN, TUB
-from tests.samples import altered, any_story, any_taps, any_things, any_works, boxes_of, dropped, replaced, retold, swapped
+from tests.samples import altered, any_story, any_taps, any_things, any_works, boxes_of, dropped, replaced, retold, stuck_of, swapped
 from worktwin.account import account, shows_account
 from worktwin.errors import TooMany
 from worktwin.lots import cores, lots
@@ -143,6 +143,11 @@ class AccountTest(unittest.TestCase):
         self.assertEqual(caught.exception.what, 200)
         self.check(boxes_of(9, 9, 1), ([], []))
         self.check(boxes_of(9, 9, 2), ([], []), most=300)
+        works, story = stuck_of(9, 9, 2)
+        self.check(works, story, most=300)
+        with self.assertRaises(TooMany) as caught:
+            account(works, story, most=299)
+        self.assertEqual(caught.exception.what, 299)
 
     def test_lists_for_tuples_and_names(self):
         for signs in ([], [(1, "hand", "shut"), (2, "eye", 4)], [(2, "rod", 5), (0, "rod", 3)]):

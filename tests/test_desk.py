@@ -3,7 +3,7 @@ import inspect
 import random
 import unittest
 
-from tests.samples import FILL, LEAST, MILL, TUB, any_claim, any_deed, any_works, boxes_of
+from tests.samples import LEAST, MILL, TUB, any_claim, any_deed, any_works, boxes_of
 from tests.test_room import told_of_room, undone
 from worktwin import desk as file
 from worktwin.claimtext import claim_text
@@ -344,9 +344,10 @@ class RunTest(unittest.TestCase):
     def test_refused_at_the_first_in_the_midst_and_at_the_last(self):
         right = ["deed t wait", "sign t 1 rod 4", "undo", "end t"]
         for at in range(5):
-            for row, error, what in (("none", BadText, "none"), ("deed t none", NoDeed, "none"), ("now x", NoTwin, "x"), ("sign t 1 rod 41", BadText, "sign t 1 rod 41")):
-                if at == 4 and error is NoDeed:
-                    continue
+            for row, error, what in (
+                ("none", BadText, "none"), ("deed t none", NoTwin if at == 4 else NoDeed, "t" if at == 4 else "none"), ("now x", NoTwin, "x"),
+                ("sign t 1 rod 41", BadText, "sign t 1 rod 41"),
+            ):
                 rows = right[:at] + [row] + right[at:]
                 self.refused(desk_with(*FILLED), error, what, rows, [("begin", 5), ("end", at)])
 

@@ -4,7 +4,7 @@ import unittest
 
 from tests import plain
 from tests.samples import FILL, LEAST, MILL, TAPS, TAPS_KNOWN, TUB
-from tests.samples import altered, any_story, any_taps, any_things, boxes_of, replaced, retold, swapped
+from tests.samples import altered, any_story, any_taps, any_things, boxes_of, retold, stuck_of, swapped
 from worktwin.errors import TooMany
 from worktwin.lotpapers import lot_paper, shows_lot
 from worktwin.lots import lots
@@ -72,6 +72,8 @@ class LotPaperTest(unittest.TestCase):
         self.assertEqual(caught.exception.what, 200)
         self.assertIsNone(lot_paper(boxes_of(9, 9, 1), ([], []), ("p",)))
         self.assertIsNotNone(lot_paper(boxes_of(9, 9, 2), ([], []), (), most=300))
+        works, story = stuck_of(9, 9, 2)
+        self.check(works, story, ("p",), most=300)
 
     def test_lists_for_tuples_and_names(self):
         story = (["draw", "wait"], [(1, "hand", "shut"), (2, "eye", 4)])

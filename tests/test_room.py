@@ -441,8 +441,11 @@ class LikeTest(unittest.TestCase):
 
     def test_its_most_goes_with_it(self):
         room = Room(most=3).like()
-        with self.assertRaises(TooMany):
-            room.begin("a", boxes_of(9, 9, 9))
+        room.begin("a", TUB)
+        with self.assertRaises(TooMany) as caught:
+            room.begin("b", boxes_of(3, 0, 0))
+        self.assertEqual(caught.exception.what, 3)
+        Room(most=300).like().begin("b", boxes_of(9, 9, 2))
 
 
 class EqualTest(unittest.TestCase):

@@ -4,7 +4,7 @@ import unittest
 
 from tests import plain
 from tests.samples import GREAT, LEAST, MILL, SHARED
-from tests.samples import any_stand, any_things, any_works, at_path, paths, replaced, swapped
+from tests.samples import any_stand, any_things, any_works, paths, replaced, swapped
 from worktwin.errors import NoSensor
 from worktwin.signs import fits, is_sign, readings
 

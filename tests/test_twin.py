@@ -184,6 +184,10 @@ class RefusedTest(unittest.TestCase):
         for name in ("", "none", "tap", "Fill", "wait ", "fill\n", "f" * 3000):
             self.refused(NoDeed, name, twin.deed, name)
         self.assertEqual(told_of(twin), before)
+        # Also where none is open any more.
+        twin.sign(0, "rod", 4)
+        self.refused(NoDeed, "none", twin.deed, "none")
+        self.assertEqual(twin.deed("wait"), 3)
 
     def test_too_many_of_a_deed(self):
         # 3 are open, then 4.

@@ -10,86 +10,48 @@ from worktwin.works import WAIT, names_of
 BEATS = 2
 
 
-class Search:
-    """The lists of deeds that lead from stands to a goal.
+def hold_in_all(works, claim, stands):
+    """Whether a claim, if it's one, holds in all of these stands."""
+    if claim is not None:
+        for stand in stands:
+            if not holds(works, claim, stand):
+                return False
+    return True
 
-    A list leads from several stands just where it leads from each of them, so that what is once known of a stand is
-    of use wherever it comes up again.
+
+def first_list(works, stands, aim):
+    """The first list of deeds that leads from all of these stands; None where none does.
+
+    The aim is (goal, keep, beats, lot).
     """
-
-    def __init__(self, works, goal, keep, lot):
-        self.plant = works
-        self.goal = goal
-        self.keep = keep
-        self.lot = lot
-        self.choices = sorted([WAIT, *names_of(works[4])])
-        self.behind_known = {}
-        self.lists_known = {}
-
-    def behind_one(self, stand, deed):
-        """All stands that may be behind that one."""
-        asked = (stand, deed)
-        if asked not in self.behind_known:
-            self.behind_known[asked] = behind_all(self.plant, [stand], deed, self.lot)
-        return self.behind_known[asked]
-
-    def keeps(self, stand):
-        """Whether that which is to be kept holds in that stand."""
-        return self.keep is None or holds(self.plant, self.keep, stand)
-
-    def found_from(self, stand, many):
-        """All lists of so many deeds, as keys, that lead from that stand."""
-        if not self.keeps(stand):
-            return {}
-        if many == 0:
-            return {(): True} if holds(self.plant, self.goal, stand) else {}
-        found = {}
-        for deed in self.choices:
-            for rest in self.from_all(self.behind_one(stand, deed), many - 1):
-                longer = (deed, *rest)
-                found[longer] = True
-        return found
-
-    def from_one(self, stand, many):
-        """The same, asked once."""
-        asked = (stand, many)
-        if asked not in self.lists_known:
-            self.lists_known[asked] = self.found_from(stand, many)
-        return self.lists_known[asked]
-
-    def from_all(self, stands, many):
-        """All lists of so many deeds, as keys, that lead from all of these stands, one or more."""
-        found = self.from_one(stands[0], many)
-        for stand in stands[1:]:
-            if not found:
-                break
-            others = self.from_one(stand, many)
-            found = {one: True for one in found if one in others}
-        return found
-
-    def first_list(self, stands, beats):
-        """The first list, of at most so many deeds, that leads from all of these; None where none does."""
-        for many in range(beats + 1):
-            found = list(self.from_all(stands, many))
-            if found:
-                return list(min(found))
+    goal, keep, beats, lot = aim
+    names = sorted([WAIT, *names_of(works[4])])
+    if not hold_in_all(works, keep, stands):
         return None
-
-
-def first_plan(works, stands, goal, keep, beats, lot):
-    """The first list of at most so many deeds that leads from all of these stands; None where none does."""
-    search = Search(works, goal, keep, lot)
-    return search.first_list(stands, beats)
+    if hold_in_all(works, goal, stands):
+        return []
+    seen = {tuple(stands): True}
+    known = [([], stands)]
+    for many in range(beats):
+        longer = []
+        for deeds, held in known:
+            for name in names:
+                coming = behind_all(works, held, name, lot)
+                stood = tuple(coming)
+                # What led on from stands that an earlier list came to has led on from there already.
+                if stood in seen or not hold_in_all(works, keep, coming):
+                    continue
+                if hold_in_all(works, goal, coming):
+                    return [*deeds, name]
+                seen[stood] = True
+                longer.append(([*deeds, name], coming))
+        known = longer
+    return None
 
 
 def plan(works, story, goal, *, keep=None, beats=BEATS, lot=(), most=MOST):
     """The first list of deeds that leads from all that is allowed at the last beat; None where none does."""
-    return first_plan(works, last_allowed(works, story, lot, most), goal, keep, beats, lot)
-
-
-def hold_in_all(works, claim, stands):
-    """Whether a claim, if it's one, holds in all of these stands."""
-    return claim is None or all([holds(works, claim, stand) for stand in stands])
+    return first_list(works, last_allowed(works, story, lot, most), (goal, keep, beats, lot))
 
 
 def shows_plan(works, story, goal, thing, *, keep=None, lot=()):
@@ -107,14 +69,12 @@ def shows_plan(works, story, goal, thing, *, keep=None, lot=()):
     return hold_in_all(works, keep, stands) and hold_in_all(works, goal, stands)
 
 
-def plans_by(search, stands, sensor, beats):
-    """For each reading of the sensor that fits some of these (reading, deeds); None where of one no list leads."""
-    works = search.plant
+def lists_by(works, stands, aim, sensor):
+    """For each reading of that sensor that fits one of these (reading, deeds); None where no list leads by one."""
     told = sorted({reading for stand in stands for reading in readings(works, stand, sensor)})
     rows = []
     for reading in told:
-        fitting = [stand for stand in stands if fits(works, stand, (0, sensor, reading))]
-        deeds = search.first_list(fitting, beats)
+        deeds = first_list(works, [stand for stand in stands if fits(works, stand, (0, sensor, reading))], aim)
         if deeds is None:
             return None
         rows.append((reading, deeds))
@@ -124,11 +84,11 @@ def plans_by(search, stands, sensor, beats):
 def needed(works, story, goal, *, keep=None, beats=BEATS, lot=(), most=MOST):
     """The first sensor by whose sign, whatever it reads, a list leads, and these lists; None where none helps."""
     stands = last_allowed(works, story, lot, most)
-    search = Search(works, goal, keep, lot)
-    if search.first_list(stands, beats) is not None:
+    aim = (goal, keep, beats, lot)
+    if first_list(works, stands, aim) is not None:
         return None
     for sensor in names_of(works[5]):
-        rows = plans_by(search, stands, sensor, beats)
+        rows = lists_by(works, stands, aim, sensor)
         if rows is not None:
             return (sensor, rows)
     return None

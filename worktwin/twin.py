@@ -2,7 +2,7 @@
 
 from worktwin.allowed import MOST, allowed_of, check_run, open_on
 from worktwin.errors import BadReading, NoBeat, NoDeed, NoSensor
-from worktwin.leading import BEATS, first_plan
+from worktwin.leading import BEATS, first_list
 from worktwin.lots import least_lots
 from worktwin.model import model_of
 from worktwin.signs import is_reading, sensor_of
@@ -138,7 +138,7 @@ class Twin:
     def plan(self, goal, *, keep=None, beats=BEATS):
         """The first list of deeds that leads from all that is allowed at its last beat; None where none does."""
         check_run(self.rows[-1], self.lot)
-        return first_plan(self.plant, self.rows[-1], goal, keep, beats, self.lot)
+        return first_list(self.plant, self.rows[-1], (goal, keep, beats, self.lot))
 
     def like(self):
         """One of its own that is the same."""
